@@ -1,0 +1,34 @@
+// Package upkeep: which packages to install, given what they need and what somebody asks for: see DOC.md.
+package upkeep
+
+import (
+	"upkeep/api"
+	"upkeep/document"
+)
+
+// Check tells whether a text is a document (P3).
+func Check(doc string) (api.Errno, int) {
+	reading := document.Read(doc)
+	return reading.Errno, reading.Place
+}
+
+// Show writes a document in its usual form (P4).
+func Show(doc string) (string, api.Errno) {
+	reading := document.Read(doc)
+	if reading.Errno != api.OK {
+		return "", reading.Errno
+	}
+	return document.Show(reading.Doc), api.OK
+}
+
+// Valid tells which rule a pick breaks (P5).
+func Valid(doc string, pick string) (int, api.Errno) { return 0, api.OK }
+
+// Score tells how good a pick is (P6).
+func Score(doc string, criteria string, pick string) (string, api.Errno) { return "", api.OK }
+
+// Solve decides clauses (P7).
+func Solve(clauses string, assume string) (string, bool, api.Errno) { return "", false, api.OK }
+
+// Choose finds the best pick (P8).
+func Choose(doc string, criteria string) (string, api.Errno) { return "", api.OK }
