@@ -32,20 +32,11 @@ func Read(text string) Reading {
 // firstTwice answers the number of the first package that one ahead of it equals in name and version, or how many there are if none does.
 func firstTwice(packs []Pack) int {
 	for i, p := range packs {
-		if isAmong(packs[:i], p) {
+		if Has(packs[:i], p.Name, p.Version) {
 			return i
 		}
 	}
 	return len(packs)
-}
-
-func isAmong(packs []Pack, wanted Pack) bool {
-	for _, p := range packs {
-		if p.Name == wanted.Name && p.Version == wanted.Version {
-			return true
-		}
-	}
-	return false
 }
 
 func (r *reader) document() Document {

@@ -80,38 +80,66 @@ func TestP1NothingComesWithAnError(t *testing.T) {
 		if showErrno != api.OK && text != "" {
 			t.Errorf("P1: Show(%.40q) = %q with error %d", doc, text, showErrno)
 		}
+		for _, other := range []string{"", "a1", "-r", doc} {
+			for _, criteria := range []string{"-r", "", doc} {
+				nothingWithAnError(t, doc, criteria, other, errno)
+			}
+		}
+	}
+}
+
+// nothingWithAnError asks for a pick, which cannot be answered if the document has a fault.
+func nothingWithAnError(t *testing.T, doc, criteria, pick string, checkErrno api.Errno) {
+	t.Helper()
+	n, errno := upkeep.Valid(doc, pick)
+	if errno != api.OK && n != 0 || checkErrno != api.OK && errno != checkErrno {
+		t.Errorf("P1: Valid(%.40q, %.40q) = %d, %d, Check's error is %d", doc, pick, n, errno, checkErrno)
+	}
+	text, errno := upkeep.Score(doc, criteria, pick)
+	if errno != api.OK && text != "" || checkErrno != api.OK && errno != checkErrno {
+		t.Errorf("P1: Score(%.40q, %.40q, %.40q) = %q, %d, Check's error is %d", doc, criteria, pick, text, errno, checkErrno)
 	}
 }
 
 type answer struct {
-	errno     api.Errno
-	place     int
-	text      string
-	showErrno api.Errno
+	errno      api.Errno
+	place      int
+	text       string
+	showErrno  api.Errno
+	rule       int
+	validErrno api.Errno
+	score      string
+	scoreErrno api.Errno
 }
 
-func ask(doc string) answer {
+func ask(doc, pick string) answer {
 	var a answer
 	a.errno, a.place = upkeep.Check(doc)
 	a.text, a.showErrno = upkeep.Show(doc)
+	a.rule, a.validErrno = upkeep.Valid(doc, pick)
+	a.score, a.scoreErrno = upkeep.Score(doc, "-r+n-c+u", pick)
 	return a
 }
 
 func TestP2AnswersDependOnTheArgumentsAlone(t *testing.T) {
 	docs := oddTexts()
+	picks := make([]string, len(docs))
 	d := dice{state: 2}
 	for range 300 {
-		docs = append(docs, d.document())
+		doc := d.sparseDocument()
+		all := refRead(doc).allPicks()
+		docs = append(docs, doc)
+		picks = append(picks, all[d.below(len(all))])
 	}
 	var first []answer
-	for _, doc := range docs {
-		first = append(first, ask(doc))
+	for i, doc := range docs {
+		first = append(first, ask(doc, picks[i]))
 	}
 	// Backwards, and from copies, so that neither what was asked before nor where a text lies can tell.
 	for i := len(docs) - 1; i >= 0; i-- {
-		again := ask(strings.Clone(docs[i]))
+		again := ask(strings.Clone(docs[i]), strings.Clone(picks[i]))
 		if again != first[i] {
-			t.Errorf("P2: %.60q: %v first, then %v", docs[i], first[i], again)
+			t.Errorf("P2: %.60q, %q: %v first, then %v", docs[i], picks[i], first[i], again)
 		}
 	}
 }

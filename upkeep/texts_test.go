@@ -92,6 +92,31 @@ func (d *dice) document() string {
 	return text + "/" + d.constraints(0, ",") + "/" + d.constraints(0, ",") + "/" + d.constraints(0, ",")
 }
 
+// sparseDocument throws a document in which many lists are empty, so that each rule is now and then the first that does not hold.
+func (d *dice) sparseDocument() string {
+	doc := d.document()
+	fields := strings.Split(doc, "/")
+	packs := strings.SplitAfter(fields[0], ";")
+	for i := range len(packs) - 1 {
+		parts := strings.Split(packs[i], ":")
+		for k := 1; k <= 2; k++ {
+			if d.below(3) > 0 {
+				parts[k] = ""
+			}
+		}
+		if d.below(2) == 0 {
+			parts[0] = strings.TrimRight(parts[0], "!^")
+		}
+		packs[i] = strings.Join(parts, ":")
+	}
+	for i := 1; i <= 3; i++ {
+		list := split(fields[i], ",")
+		fields[i] = strings.Join(list[:min(len(list), d.below(3))], ",")
+	}
+	fields[0] = strings.Join(packs, "")
+	return strings.Join(fields, "/")
+}
+
 // spoiled changes, takes out or puts in one byte.
 func (d *dice) spoiled(text string) string {
 	at := d.below(len(text) + 1)

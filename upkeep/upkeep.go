@@ -4,6 +4,8 @@ package upkeep
 import (
 	"upkeep/api"
 	"upkeep/document"
+	"upkeep/picks"
+	"upkeep/score"
 )
 
 // Check tells whether a text is a document (P3).
@@ -22,10 +24,34 @@ func Show(doc string) (string, api.Errno) {
 }
 
 // Valid tells which rule a pick breaks (P5).
-func Valid(doc string, pick string) (int, api.Errno) { return 0, api.OK }
+func Valid(doc string, pick string) (int, api.Errno) {
+	reading := document.Read(doc)
+	if reading.Errno != api.OK {
+		return 0, reading.Errno
+	}
+	choice := picks.Read(reading.Doc.Packs, pick)
+	if choice.Errno != api.OK {
+		return 0, choice.Errno
+	}
+	return picks.FirstBroken(reading.Doc, choice.Picked), api.OK
+}
 
 // Score tells how good a pick is (P6).
-func Score(doc string, criteria string, pick string) (string, api.Errno) { return "", api.OK }
+func Score(doc string, criteria string, pick string) (string, api.Errno) {
+	reading := document.Read(doc)
+	if reading.Errno != api.OK {
+		return "", reading.Errno
+	}
+	wishes := score.Read(criteria)
+	if wishes.Errno != api.OK {
+		return "", wishes.Errno
+	}
+	choice := picks.Read(reading.Doc.Packs, pick)
+	if choice.Errno != api.OK {
+		return "", choice.Errno
+	}
+	return score.Text(wishes.Letters, reading.Doc.Packs, choice.Picked), api.OK
+}
 
 // Solve decides clauses (P7).
 func Solve(clauses string, assume string) (string, bool, api.Errno) { return "", false, api.OK }
