@@ -32,6 +32,7 @@ func TestP1EveryCallEndsAndNonePanics(t *testing.T) {
 			upkeep.Score(text, "-r", other)
 			upkeep.Score(text, other, "a1")
 			upkeep.Solve(text, other)
+			upkeep.Solve(other, text)
 			upkeep.Choose(text, other)
 		}
 	}
@@ -101,6 +102,25 @@ func nothingWithAnError(t *testing.T, doc, criteria, pick string, checkErrno api
 	}
 }
 
+func TestP1NothingComesWithAnErrorOfSolve(t *testing.T) {
+	texts := append(oddTexts(), ";", "a;", "aA", "ab;AB;", strings.Repeat("a;", 400), strings.Repeat("a;", 401))
+	seen := map[api.Errno]bool{}
+	for _, text := range texts {
+		for _, other := range []string{"", "a", "a;", ";", "A1", text} {
+			for _, pair := range [][2]string{{text, other}, {other, text}} {
+				answer, can, errno := upkeep.Solve(pair[0], pair[1])
+				seen[errno] = true
+				if errno != api.OK && (answer != "" || can) {
+					t.Errorf("P1: Solve(%.40q, %.40q) = %q, %v with error %d", pair[0], pair[1], answer, can, errno)
+				}
+			}
+		}
+	}
+	if len(seen) != 4 || !seen[api.OK] || !seen[api.ErrLong] || !seen[api.ErrClause] || !seen[api.ErrAssume] {
+		t.Errorf("P1: errors of Solve: %v", seen)
+	}
+}
+
 type answer struct {
 	errno      api.Errno
 	place      int
@@ -140,6 +160,35 @@ func TestP2AnswersDependOnTheArgumentsAlone(t *testing.T) {
 		again := ask(strings.Clone(docs[i]), strings.Clone(picks[i]))
 		if again != first[i] {
 			t.Errorf("P2: %.60q, %q: %v first, then %v", docs[i], picks[i], first[i], again)
+		}
+	}
+}
+
+func TestP2SolveDependsOnTheArgumentsAlone(t *testing.T) {
+	type solved struct {
+		text  string
+		can   bool
+		errno api.Errno
+	}
+	solve := func(clauses, assume string) solved {
+		text, can, errno := upkeep.Solve(clauses, assume)
+		return solved{text, can, errno}
+	}
+	d := dice{state: 27}
+	var clauses, assumes []string
+	var first []solved
+	for range 500 {
+		variables := d.variables(1 + d.below(26))
+		clauses = append(clauses, d.clauses(variables, d.below(100), 1+d.below(6)))
+		assumes = append(assumes, d.literals(variables, d.below(6)))
+	}
+	for i := range clauses {
+		first = append(first, solve(clauses[i], assumes[i]))
+	}
+	for i := len(clauses) - 1; i >= 0; i-- {
+		again := solve(strings.Clone(clauses[i]), strings.Clone(assumes[i]))
+		if again != first[i] {
+			t.Errorf("P2: Solve(%.60q, %q) = %v first, then %v", clauses[i], assumes[i], first[i], again)
 		}
 	}
 }

@@ -181,3 +181,49 @@ func refScore(doc, criteria, pick string) string {
 	}
 	return strings.Join(numbers, ",")
 }
+
+// refVariables are the variables that occur in the texts, in the order of the alphabet.
+func refVariables(texts ...string) string {
+	all := strings.ToLower(strings.Join(texts, ""))
+	variables := ""
+	for v := 'a'; v <= 'z'; v++ {
+		if strings.ContainsRune(all, v) {
+			variables += string(v)
+		}
+	}
+	return variables
+}
+
+// refMeets tells whether an assignment, as a text of its literals, meets all clauses and all literals of assume.
+func refMeets(clauses, assume, assignment string) bool {
+	for clauses != "" {
+		var clause string
+		clause, clauses, _ = strings.Cut(clauses, ";")
+		if !strings.ContainsAny(clause, assignment) {
+			return false
+		}
+	}
+	for i := range len(assume) {
+		if strings.IndexByte(assignment, assume[i]) < 0 {
+			return false
+		}
+	}
+	return true
+}
+
+// refCan tries every assignment of the variables that occur.
+func refCan(clauses, assume string) bool {
+	variables := refVariables(clauses, assume)
+	for bits := range 1 << len(variables) {
+		assignment := []byte(variables)
+		for i := range assignment {
+			if bits>>i&1 == 1 {
+				assignment[i] -= 'a' - 'A'
+			}
+		}
+		if refMeets(clauses, assume, string(assignment)) {
+			return true
+		}
+	}
+	return false
+}

@@ -6,6 +6,7 @@ import (
 	"upkeep/document"
 	"upkeep/picks"
 	"upkeep/score"
+	"upkeep/solver"
 )
 
 // Check tells whether a text is a document (P3).
@@ -54,7 +55,24 @@ func Score(doc string, criteria string, pick string) (string, api.Errno) {
 }
 
 // Solve decides clauses (P7).
-func Solve(clauses string, assume string) (string, bool, api.Errno) { return "", false, api.OK }
+func Solve(clauses string, assume string) (string, bool, api.Errno) {
+	if len(clauses) > api.MaxText || len(assume) > api.MaxText {
+		return "", false, api.ErrLong
+	}
+	reading := solver.Read(clauses)
+	if reading.Errno != api.OK {
+		return "", false, reading.Errno
+	}
+	assumption := solver.ReadAssumption(assume)
+	if assumption.Errno != api.OK {
+		return "", false, assumption.Errno
+	}
+	answer := solver.Decide(reading.Clauses, assumption.Literals)
+	if !answer.Can {
+		return answer.Literals.ByBytes(), false, api.OK
+	}
+	return answer.Literals.ByVariables(), true, api.OK
+}
 
 // Choose finds the best pick (P8).
 func Choose(doc string, criteria string) (string, api.Errno) { return "", api.OK }
