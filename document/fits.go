@@ -29,12 +29,13 @@ func versionFits(version byte, c Constraint) bool {
 	return false
 }
 
-// Fitted tells whether one of the packages fits the constraint.
-func Fitted(packs []Pack, c Constraint) bool {
-	for _, p := range packs {
+// Fitting answers the packages that fit the constraint.
+func Fitting(packs []Pack, c Constraint) Set {
+	fitting := Set(0)
+	for i, p := range packs {
 		if p.Fits(c) {
-			return true
+			fitting |= One(i)
 		}
 	}
-	return false
+	return fitting
 }

@@ -10,50 +10,46 @@ func Number(packs []Pack, name byte, version byte) int {
 	return len(packs)
 }
 
-// Has tells whether a package with the name and the version is there.
-func Has(packs []Pack, name byte, version byte) bool {
-	return Number(packs, name, version) < len(packs)
-}
-
-// HasName tells whether some package with the name is there. What is only provided does not count.
-func HasName(packs []Pack, name byte) bool {
-	for _, p := range packs {
-		if p.Name == name {
-			return true
-		}
-	}
-	return false
-}
-
 // Now answers the packages that are installed now.
-func Now(packs []Pack) []Pack {
-	var now []Pack
-	for _, p := range packs {
+func Now(packs []Pack) Set {
+	now := Set(0)
+	for i, p := range packs {
 		if p.Mark != MarkNone {
-			now = append(now, p)
+			now |= One(i)
 		}
 	}
 	return now
 }
 
-// WithName answers the packages that have the name.
-func WithName(packs []Pack, name byte) []Pack {
-	var named []Pack
-	for _, p := range packs {
+// WithName answers the packages that have the name. What is only provided does not count.
+func WithName(packs []Pack, name byte) Set {
+	named := Set(0)
+	for i, p := range packs {
 		if p.Name == name {
-			named = append(named, p)
+			named |= One(i)
 		}
 	}
 	return named
 }
 
-// Greatest answers the greatest version of those packages that have the name, or 0, which is below every version, if none has it.
-func Greatest(packs []Pack, name byte) byte {
-	var greatest byte
-	for _, p := range packs {
-		if p.Name == name && p.Version > greatest {
+// Greatest answers the greatest version of the packages in the set, or 0, which is below every version, if there are none.
+func Greatest(packs []Pack, among Set) byte {
+	greatest := byte(0)
+	for i, p := range packs {
+		if among.Has(i) && p.Version > greatest {
 			greatest = p.Version
 		}
 	}
 	return greatest
+}
+
+// NotBelow answers the packages in the set whose version is this one or a greater one.
+func NotBelow(packs []Pack, among Set, version byte) Set {
+	found := Set(0)
+	for i, p := range packs {
+		if among.Has(i) && p.Version >= version {
+			found |= One(i)
+		}
+	}
+	return found
 }

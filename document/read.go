@@ -32,7 +32,7 @@ func Read(text string) Reading {
 // firstTwice answers the number of the first package that one ahead of it equals in name and version, or how many there are if none does.
 func firstTwice(packs []Pack) int {
 	for i, p := range packs {
-		if Has(packs[:i], p.Name, p.Version) {
+		if Number(packs, p.Name, p.Version) < i {
 			return i
 		}
 	}

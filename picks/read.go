@@ -1,4 +1,4 @@
-// Package picks: how a pick is read, and which rule it breaks.
+// Package picks: how a pick is read and written, and which rule it breaks.
 package picks
 
 import (
@@ -8,7 +8,7 @@ import (
 
 // Reading is what came of reading a pick: the packages in it, or an error.
 type Reading struct {
-	Picked []document.Pack
+	Picked document.Set
 	Errno  api.Errno
 }
 
@@ -17,7 +17,7 @@ func Read(packs []document.Pack, text string) Reading {
 	if len(text) > api.MaxText || len(text)%2 != 0 {
 		return Reading{Errno: api.ErrPick}
 	}
-	var picked []document.Pack
+	picked := document.Set(0)
 	last := ""
 	for at := 0; at+2 <= len(text); at += 2 {
 		head := text[at : at+2]
@@ -25,8 +25,22 @@ func Read(packs []document.Pack, text string) Reading {
 		if number >= len(packs) || head <= last {
 			return Reading{Errno: api.ErrPick}
 		}
-		picked = append(picked, packs[number])
+		picked |= document.One(number)
 		last = head
 	}
 	return Reading{Picked: picked}
+}
+
+// Text writes a pick of the packages: their names in the order of bytes.
+func Text(packs []document.Pack, picked document.Set) string {
+	var text []byte
+	for name := byte('a'); name <= 'z'; name++ {
+		for version := byte('1'); version <= '9'; version++ {
+			number := document.Number(packs, name, version)
+			if picked.Has(number) {
+				text = append(text, name, version)
+			}
+		}
+	}
+	return string(text)
 }

@@ -2,111 +2,107 @@ package picks
 
 import "upkeep/document"
 
-// FirstBroken answers the number of the first of the rules 1 to 6 that does not hold for the packages that are picked, or 0 if all hold.
-func FirstBroken(d document.Document, picked []document.Pack) int {
-	if !needsMet(picked) {
-		return 1
-	}
-	if !noConflict(picked) {
-		return 2
-	}
-	if !marksKept(d.Packs, picked) {
-		return 3
-	}
-	if !installed(d.Install, picked) {
-		return 4
-	}
-	if !removed(d.Remove, picked) {
-		return 5
-	}
-	if !upgraded(d, picked) {
-		return 6
-	}
-	return 0
+// Rules are what the rules 1 to 6 ask of a pick, in sets of packages, so that what fits a constraint is found out once and not for each pick.
+type Rules struct {
+	Packs    []Pack         // 1 and 2, by the packages' numbers
+	Stay     []document.Set // 3: one of each is to be picked
+	Install  []document.Set // 4: one of each is to be picked
+	Remove   document.Set   // 5: none is to be picked
+	Upgrades []Upgrade      // 6
 }
 
-// needsMet is rule 1.
-func needsMet(picked []document.Pack) bool {
-	for _, p := range picked {
-		for _, need := range p.Needs {
-			if !met(need, picked) {
-				return false
+// Pack is what a package asks for, if it is picked.
+type Pack struct {
+	Needs []document.Set // one of each is to be picked
+	Foes  document.Set   // none is to be picked
+}
+
+// Upgrade is what a constraint of UPGRADE asks for.
+type Upgrade struct {
+	Named document.Set // exactly one is to be picked
+	Good  document.Set // and it is to be one of these
+}
+
+// RulesOf answers what the document's rules are.
+func RulesOf(d document.Document) Rules {
+	var r Rules
+	for i, p := range d.Packs {
+		needs := needed(d.Packs, p)
+		foes := opposed(d.Packs, p)
+		// A package may fit its own conflicts.
+		foes &^= document.One(i)
+		r.Packs = append(r.Packs, Pack{Needs: needs, Foes: foes})
+	}
+	r.Stay = staying(d.Packs)
+	r.Install = fitting(d.Packs, d.Install)
+	r.Remove = fittingAny(d.Packs, d.Remove)
+	r.Upgrades = upgrades(d)
+	return r
+}
+
+func needed(packs []document.Pack, p document.Pack) []document.Set {
+	var needs []document.Set
+	for _, need := range p.Needs {
+		set := fittingAny(packs, need.Choices)
+		needs = append(needs, set)
+	}
+	return needs
+}
+
+// opposed answers the packages that fit a conflict of this one, and those of which it fits a conflict: two cannot stand together, whichever of them says so.
+func opposed(packs []document.Pack, p document.Pack) document.Set {
+	foes := fittingAny(packs, p.Conflicts)
+	for i, other := range packs {
+		for _, c := range other.Conflicts {
+			if p.Fits(c) {
+				foes |= document.One(i)
 			}
 		}
 	}
-	return true
+	return foes
 }
 
-func met(need document.Need, picked []document.Pack) bool {
-	for _, c := range need.Choices {
-		if document.Fitted(picked, c) {
-			return true
+func staying(packs []document.Pack) []document.Set {
+	var stay []document.Set
+	for i, p := range packs {
+		if p.Mark == document.MarkVersionStays {
+			stay = append(stay, document.One(i))
+		}
+		if p.Mark == document.MarkNameStays {
+			stay = append(stay, document.WithName(packs, p.Name))
 		}
 	}
-	return false
+	return stay
 }
 
-// noConflict is rule 2.
-func noConflict(picked []document.Pack) bool {
-	for i, p := range picked {
-		for _, c := range p.Conflicts {
-			// What stands on both sides of the package is all but itself, which may fit its own conflicts.
-			before := document.Fitted(picked[:i], c)
-			behind := document.Fitted(picked[i+1:], c)
-			if before || behind {
-				return false
-			}
-		}
-	}
-	return true
-}
-
-// marksKept is rule 3.
-func marksKept(packs []document.Pack, picked []document.Pack) bool {
-	for _, p := range packs {
-		if p.Mark == document.MarkVersionStays && !document.Has(picked, p.Name, p.Version) {
-			return false
-		}
-		if p.Mark == document.MarkNameStays && !document.HasName(picked, p.Name) {
-			return false
-		}
-	}
-	return true
-}
-
-// installed is rule 4.
-func installed(install []document.Constraint, picked []document.Pack) bool {
-	for _, c := range install {
-		if !document.Fitted(picked, c) {
-			return false
-		}
-	}
-	return true
-}
-
-// removed is rule 5.
-func removed(remove []document.Constraint, picked []document.Pack) bool {
-	for _, c := range remove {
-		if document.Fitted(picked, c) {
-			return false
-		}
-	}
-	return true
-}
-
-// upgraded is rule 6.
-func upgraded(d document.Document, picked []document.Pack) bool {
+func upgrades(d document.Document) []Upgrade {
 	now := document.Now(d.Packs)
+	var list []Upgrade
 	for _, c := range d.Upgrade {
-		named := document.WithName(picked, c.Name)
-		if len(named) != 1 {
-			return false
-		}
-		one := named[0]
-		least := document.Greatest(now, c.Name)
-		if one.Version < least || !one.Fits(c) {
-			return false
-		}
+		named := document.WithName(d.Packs, c.Name)
+		least := document.Greatest(d.Packs, named&now)
+		good := document.NotBelow(d.Packs, named, least)
+		good &= document.Fitting(d.Packs, c)
+		list = append(list, Upgrade{Named: named, Good: good})
 	}
-	return true
+	return list
+}
+
+// fitting answers, for each of the constraints, the packages that fit it.
+func fitting(packs []document.Pack, list []document.Constraint) []document.Set {
+	var sets []document.Set
+	for _, c := range list {
+		set := document.Fitting(packs, c)
+		sets = append(sets, set)
+	}
+	return sets
+}
+
+// fittingAny answers the packages that fit one of the constraints.
+func fittingAny(packs []document.Pack, list []document.Constraint) document.Set {
+	found := document.Set(0)
+	for _, c := range list {
+		found |= document.Fitting(packs, c)
+	}
+	return found
 }

@@ -3,10 +3,27 @@ package score
 
 import "upkeep/api"
 
-// Reading is what came of reading criteria: their letters, or an error. A number is the same whether few or many are wished for, so the signs are not kept.
+// The signs and the letters of criteria.
+const (
+	few  = '-'
+	many = '+'
+
+	removed = 'r'
+	added   = 'n'
+	changed = 'c'
+	old     = 'u'
+)
+
+// Criterion says of what there are to be few, or many.
+type Criterion struct {
+	Many   bool
+	Letter byte
+}
+
+// Reading is what came of reading criteria: these, or an error.
 type Reading struct {
-	Letters []byte
-	Errno   api.Errno
+	Criteria []Criterion
+	Errno    api.Errno
 }
 
 // Read reads criteria. How many there are is looked at first, so that a long text is not gone through.
@@ -14,18 +31,20 @@ func Read(text string) Reading {
 	if len(text) == 0 || len(text) > 2*api.MaxCriteria || len(text)%2 != 0 {
 		return Reading{Errno: api.ErrCriteria}
 	}
-	var letters []byte
+	var criteria []Criterion
 	for at := 0; at+2 <= len(text); at += 2 {
-		if !isSign(text[at]) || !isLetter(text[at+1]) {
+		sign := text[at]
+		letter := text[at+1]
+		if !isSign(sign) || !isLetter(letter) {
 			return Reading{Errno: api.ErrCriteria}
 		}
-		letters = append(letters, text[at+1])
+		criteria = append(criteria, Criterion{Many: sign == many, Letter: letter})
 	}
-	return Reading{Letters: letters}
+	return Reading{Criteria: criteria}
 }
 
 func isSign(b byte) bool {
-	return b == '-' || b == '+'
+	return b == few || b == many
 }
 
 func isLetter(b byte) bool {

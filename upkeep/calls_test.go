@@ -34,6 +34,7 @@ func TestP1EveryCallEndsAndNonePanics(t *testing.T) {
 			upkeep.Solve(text, other)
 			upkeep.Solve(other, text)
 			upkeep.Choose(text, other)
+			upkeep.Choose(other, text)
 		}
 	}
 }
@@ -100,6 +101,10 @@ func nothingWithAnError(t *testing.T, doc, criteria, pick string, checkErrno api
 	if errno != api.OK && text != "" || checkErrno != api.OK && errno != checkErrno {
 		t.Errorf("P1: Score(%.40q, %.40q, %.40q) = %q, %d, Check's error is %d", doc, criteria, pick, text, errno, checkErrno)
 	}
+	text, errno = upkeep.Choose(doc, criteria)
+	if errno != api.OK && text != "" || checkErrno != api.OK && errno != checkErrno {
+		t.Errorf("P1: Choose(%.40q, %.40q) = %q, %d, Check's error is %d", doc, criteria, text, errno, checkErrno)
+	}
 }
 
 func TestP1NothingComesWithAnErrorOfSolve(t *testing.T) {
@@ -130,6 +135,8 @@ type answer struct {
 	validErrno api.Errno
 	score      string
 	scoreErrno api.Errno
+	best       string
+	bestErrno  api.Errno
 }
 
 func ask(doc, pick string) answer {
@@ -138,6 +145,7 @@ func ask(doc, pick string) answer {
 	a.text, a.showErrno = upkeep.Show(doc)
 	a.rule, a.validErrno = upkeep.Valid(doc, pick)
 	a.score, a.scoreErrno = upkeep.Score(doc, "-r+n-c+u", pick)
+	a.best, a.bestErrno = upkeep.Choose(doc, "-c+n-r+u")
 	return a
 }
 

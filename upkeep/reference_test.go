@@ -6,7 +6,7 @@ import (
 	"strings"
 )
 
-// This file says once more what a pick is, when it is valid, and what criteria count, written from the section "Words" and not from the program: on texts, by sets of names, without a thought of speed.
+// This file says once more what a pick is, when it is valid, what criteria count, and which pick is better, written from the section "Words" and not from the program: on texts, by sets of names, without a thought of speed.
 
 // split is a list's parts; the empty list has none.
 func split(list, between string) []string {
@@ -180,6 +180,46 @@ func refScore(doc, criteria, pick string) string {
 		numbers = append(numbers, strconv.Itoa(number))
 	}
 	return strings.Join(numbers, ",")
+}
+
+// refBetter tells whether the one score is better than the other by the criteria.
+func refBetter(criteria, one, other string) bool {
+	ones, others := strings.Split(one, ","), strings.Split(other, ",")
+	for i, criterion := range refHeads(criteria) {
+		a, _ := strconv.Atoi(ones[i])
+		b, _ := strconv.Atoi(others[i])
+		if a != b {
+			return a < b && criterion[0] == '-' || a > b && criterion[0] == '+'
+		}
+	}
+	return false
+}
+
+// refAllValid are the valid picks of a document. It tries all picks.
+func refAllValid(doc string) []string {
+	var valid []string
+	for _, pick := range refRead(doc).allPicks() {
+		if refValid(doc, pick) == 0 {
+			valid = append(valid, pick)
+		}
+	}
+	return valid
+}
+
+// refBest are those of some picks that none of them is better than, and their score.
+func refBest(doc, criteria string, from []string) ([]string, string) {
+	var best []string
+	top := ""
+	for _, pick := range from {
+		score := refScore(doc, criteria, pick)
+		if len(best) == 0 || refBetter(criteria, score, top) {
+			best, top = nil, score
+		}
+		if score == top {
+			best = append(best, pick)
+		}
+	}
+	return best, top
 }
 
 // refVariables are the variables that occur in the texts, in the order of the alphabet.

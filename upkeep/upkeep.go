@@ -3,6 +3,7 @@ package upkeep
 
 import (
 	"upkeep/api"
+	"upkeep/choice"
 	"upkeep/document"
 	"upkeep/picks"
 	"upkeep/score"
@@ -30,11 +31,13 @@ func Valid(doc string, pick string) (int, api.Errno) {
 	if reading.Errno != api.OK {
 		return 0, reading.Errno
 	}
-	choice := picks.Read(reading.Doc.Packs, pick)
-	if choice.Errno != api.OK {
-		return 0, choice.Errno
+	chosen := picks.Read(reading.Doc.Packs, pick)
+	if chosen.Errno != api.OK {
+		return 0, chosen.Errno
 	}
-	return picks.FirstBroken(reading.Doc, choice.Picked), api.OK
+	rules := picks.RulesOf(reading.Doc)
+	alone := document.Just(chosen.Picked)
+	return picks.FirstBroken(rules, alone), api.OK
 }
 
 // Score tells how good a pick is (P6).
@@ -47,11 +50,12 @@ func Score(doc string, criteria string, pick string) (string, api.Errno) {
 	if wishes.Errno != api.OK {
 		return "", wishes.Errno
 	}
-	choice := picks.Read(reading.Doc.Packs, pick)
-	if choice.Errno != api.OK {
-		return "", choice.Errno
+	chosen := picks.Read(reading.Doc.Packs, pick)
+	if chosen.Errno != api.OK {
+		return "", chosen.Errno
 	}
-	return score.Text(wishes.Letters, reading.Doc.Packs, choice.Picked), api.OK
+	names := score.Names(reading.Doc.Packs)
+	return score.Text(wishes.Criteria, names, chosen.Picked), api.OK
 }
 
 // Solve decides clauses (P7).
@@ -75,4 +79,18 @@ func Solve(clauses string, assume string) (string, bool, api.Errno) {
 }
 
 // Choose finds the best pick (P8).
-func Choose(doc string, criteria string) (string, api.Errno) { return "", api.OK }
+func Choose(doc string, criteria string) (string, api.Errno) {
+	reading := document.Read(doc)
+	if reading.Errno != api.OK {
+		return "", reading.Errno
+	}
+	wishes := score.Read(criteria)
+	if wishes.Errno != api.OK {
+		return "", wishes.Errno
+	}
+	best := choice.Best(reading.Doc, wishes.Criteria)
+	if !best.Found {
+		return "", api.ErrNone
+	}
+	return picks.Text(reading.Doc.Packs, best.Picked), api.OK
+}
